@@ -1,4 +1,5 @@
-package seq
+// Package draft is how sequences of tokens are kept in a tree of keys, as shared/doc/15-seq.md tells: it asks them, and changes them by as many steps as it takes, of which nothing is written till all are known. The layers seq and tour stand on it.
+package draft
 
 import (
 	"cmp"
@@ -9,12 +10,27 @@ import (
 	"rootstock/cowtree"
 )
 
-// draft is what a call has read, and what it is about to write. Nothing is written till all of it is known: so a call that finds something wrong leaves all as it was.
-type draft struct {
+// Draft is what was read of a tree's sequences, and what is about to be written. Its calls are those of layer 15, each of which finds what those ahead of it have left. Behind an error that tells more than that an argument is wrong it may be changed in part: so it must not be gone on with.
+type Draft struct {
 	tree *cowtree.Tree
 	was  map[api.Token]value // as the tree has it
-	is   map[api.Token]value // as it is to be
+	is   map[api.Token]value // as it is to be; the zero value: gone
 	lost string              // the key at which the tree told an error; empty: none
+}
+
+// New is a draft for a tree, of which nothing is written: it is for who just asks.
+func New(t *cowtree.Tree) *Draft {
+	return &Draft{tree: t, was: make(map[api.Token]value), is: make(map[api.Token]value)}
+}
+
+// Do does to the sequences of a tree what a plan says. Where the plan tells an error, nothing is written; but behind an error of the tree that is done with.
+func Do(t *cowtree.Tree, plan func(d *Draft) api.Errno) api.Errno {
+	d := New(t)
+	if err := plan(d); err != api.OK {
+		d.giveUp()
+		return err
+	}
+	return d.write()
 }
 
 // knot is a token with its value.
@@ -29,14 +45,10 @@ type step struct {
 	side     int
 }
 
-func newDraft(t *cowtree.Tree) *draft {
-	return &draft{tree: t, was: make(map[api.Token]value), is: make(map[api.Token]value)}
-}
-
 // find is the value of a token, and whether there is that token.
-func (d *draft) find(k api.Token) (value, bool, api.Errno) {
+func (d *Draft) find(k api.Token) (value, bool, api.Errno) {
 	if v, ok := d.is[k]; ok {
-		return v, true, api.OK
+		return v, v.count > 0, api.OK
 	}
 	if v, ok := d.was[k]; ok {
 		return v, true, api.OK
@@ -59,7 +71,7 @@ func (d *draft) find(k api.Token) (value, bool, api.Errno) {
 }
 
 // read is the value of a token that another one is tied to, so that it must be there; none has the zero value.
-func (d *draft) read(k api.Token) (value, api.Errno) {
+func (d *Draft) read(k api.Token) (value, api.Errno) {
 	if k == none {
 		return value{}, api.OK
 	}
@@ -70,17 +82,8 @@ func (d *draft) read(k api.Token) (value, api.Errno) {
 	return v, err
 }
 
-// has tells whether there is a token, if it is one.
-func (d *draft) has(k api.Token) (bool, api.Errno) {
-	if !isToken(k) {
-		return false, api.ErrVertex
-	}
-	_, there, err := d.find(k)
-	return there, err
-}
-
 // need tells what is wrong with the tokens that a call is given: ahead of all else all of them must be tokens.
-func (d *draft) need(tokens ...api.Token) api.Errno {
+func (d *Draft) need(tokens ...api.Token) api.Errno {
 	for _, k := range tokens {
 		if !isToken(k) {
 			return api.ErrVertex
@@ -99,7 +102,7 @@ func (d *draft) need(tokens ...api.Token) api.Errno {
 }
 
 // rootOf is the root of the tree of a token that a call is given.
-func (d *draft) rootOf(k api.Token) (knot, api.Errno) {
+func (d *Draft) rootOf(k api.Token) (knot, api.Errno) {
 	if err := d.need(k); err != api.OK {
 		return knot{}, err
 	}
@@ -107,7 +110,7 @@ func (d *draft) rootOf(k api.Token) (knot, api.Errno) {
 }
 
 // roots are those of two tokens that a call is given.
-func (d *draft) roots(a, b api.Token) (knot, knot, api.Errno) {
+func (d *Draft) roots(a, b api.Token) (knot, knot, api.Errno) {
 	if err := d.need(a, b); err != api.OK {
 		return knot{}, knot{}, err
 	}
@@ -120,12 +123,12 @@ func (d *draft) roots(a, b api.Token) (knot, knot, api.Errno) {
 }
 
 // root is the root of the tree of a token that there is.
-func (d *draft) root(k api.Token) (knot, api.Errno) {
+func (d *Draft) root(k api.Token) (knot, api.Errno) {
 	return d.up(k, func(step) api.Errno { return api.OK })
 }
 
 // up goes the way from a token up to the root, which it tells, and hands on each step of it, ahead of going on. Just the tokens on the way are read.
-func (d *draft) up(k api.Token, do func(step) api.Errno) (knot, api.Errno) {
+func (d *Draft) up(k api.Token, do func(step) api.Errno) (knot, api.Errno) {
 	v, err := d.read(k)
 	at := knot{k, v}
 	// Each step comes to a greater height: so there are fewer than tallest.
@@ -153,7 +156,7 @@ func (d *draft) up(k api.Token, do func(step) api.Errno) (knot, api.Errno) {
 }
 
 // open is the family of a token that there is.
-func (d *draft) open(k api.Token) (family, api.Errno) {
+func (d *Draft) open(k api.Token) (family, api.Errno) {
 	v, err := d.read(k)
 	if err != api.OK {
 		return family{}, err
@@ -172,7 +175,7 @@ func (d *draft) open(k api.Token) (family, api.Errno) {
 }
 
 // down goes from a token down, to the sides that choose says, till it says above: which token that is.
-func (d *draft) down(k api.Token, choose func(family) int) (api.Token, api.Errno) {
+func (d *Draft) down(k api.Token, choose func(family) int) (api.Token, api.Errno) {
 	for range tallest {
 		f, err := d.open(k)
 		if err != api.OK {
@@ -188,7 +191,7 @@ func (d *draft) down(k api.Token, choose func(family) int) (api.Token, api.Errno
 }
 
 // each tells the tokens of a tree, in order.
-func (d *draft) each(k api.Token, tell func(api.Token)) api.Errno {
+func (d *Draft) each(k api.Token, tell func(api.Token)) api.Errno {
 	if k == none {
 		return api.OK
 	}
@@ -204,22 +207,31 @@ func (d *draft) each(k api.Token, tell func(api.Token)) api.Errno {
 }
 
 // write does what the draft says, by rising keys, so that the same pages are taken whenever the same is done.
-func (d *draft) write() api.Errno {
+func (d *Draft) write() api.Errno {
 	for _, k := range slices.SortedFunc(maps.Keys(d.is), func(a, b api.Token) int {
 		return cmp.Compare(keyOf(a), keyOf(b))
 	}) {
-		if was, ok := d.was[k]; ok && was == d.is[k] {
+		if d.was[k] == d.is[k] {
 			continue
 		}
-		if err := d.tree.Put(keyOf(k), d.is[k].encode()); err != api.OK {
+		if err := d.put(k, d.is[k]); err != api.OK {
 			return err
 		}
 	}
 	return api.OK
 }
 
+// put writes the value of a token, or takes it away.
+func (d *Draft) put(k api.Token, v value) api.Errno {
+	if v.count > 0 {
+		return d.tree.Put(keyOf(k), v.encode())
+	}
+	_, err := d.tree.Delete(keyOf(k))
+	return err
+}
+
 // giveUp sees to it that a tree which told an error is done with, though it was just asked: a change of the same key comes to the same page, and so to the same error.
-func (d *draft) giveUp() {
+func (d *Draft) giveUp() {
 	if d.lost != "" {
 		d.tree.Delete(d.lost)
 	}
