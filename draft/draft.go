@@ -1,4 +1,4 @@
-// Package draft is how sequences of tokens are kept in a tree of keys, as shared/doc/15-seq.md tells: it asks them, and changes them by as many steps as it takes, of which nothing is written till all are known. The layers seq and tour stand on it.
+// Package draft is how sequences of tokens are kept in a tree of keys, as shared/doc/15-seq.md tells: it asks them, and changes them by as many steps as it takes, of which nothing is written till all are known. The layer seq and package grove stand on it.
 package draft
 
 import (

@@ -1,4 +1,4 @@
-package tour
+package grove
 
 import (
 	"slices"
@@ -7,7 +7,7 @@ import (
 	"rootstock/draft"
 )
 
-// work is what a call is about to change, step by step, in one draft: nothing of it is written till all steps are done, since a value that is wrong may be met late, where just a change comes to it. Behind the first error no step is done any more.
+// work is what a call is about to change, step by step, in the draft. Behind the first error no step is done any more.
 type work struct {
 	draft *draft.Draft
 	err   api.Errno
