@@ -2,12 +2,12 @@ package forest
 
 import (
 	"slices"
-	"sort"
 	"strings"
 
 	"rootstock/adj"
 	"rootstock/api"
 	"rootstock/grove"
+	"rootstock/strict"
 )
 
 // bridge is an edge, if it is there, that joins two trees.
@@ -120,21 +120,10 @@ func (f *Forest) fits(g *grove.Grove, b bridge, v int) api.Errno {
 	return err
 }
 
-// giveUp sees to it that a tree which told an error where a vertex's keys were read is done with, though it was just asked: to delete the first key at which it errs comes to the same page. That key is found byte by byte. Where it was the edges that were wrong, the tree stays as it is.
+// giveUp sees to it that a tree which told an error where a vertex's keys were read is done with. Where it was the edges that were wrong, it stays as it is.
 func (f *Forest) giveUp(x int) {
-	key := keysOf(x)
-	errs := func(below string) bool {
-		_, err := f.tree.Scan(keysOf(x), below)
-		return err != api.OK
-	}
-	if !errs(key + strings.Repeat("\xff", api.MaxKey)) {
-		return
-	}
-	for len(key) < api.MaxKey && !errs(key+"\x00") {
-		next := sort.Search(256, func(b int) bool { return errs(key + string([]byte{byte(b)})) })
-		key += string([]byte{byte(next - 1)})
-	}
-	f.tree.Delete(key)
+	begin := keysOf(x)
+	strict.Tree{Tree: f.tree}.Scan(begin, begin+strings.Repeat("\xff", api.MaxKey))
 }
 
 // keysOf is what all keys of edges with that vertex ahead begin with.

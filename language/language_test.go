@@ -22,7 +22,7 @@ const maxLines = 60
 func folders() []string {
 	return []string{
 		"api", "codec", "crc", "edge", "disk", "page", "pagefile", "rootslot", "runs", "chain", "alloc", "entry", "node",
-		"cowtree", "treediff", "draft", "seq", "grove", "tour", "adj", "forest", "catalog", "model", "mark", "gc", "graphdb", "play",
+		"cowtree", "treediff", "strict", "draft", "seq", "grove", "tour", "adj", "forest", "catalog", "model", "mark", "gc", "graphdb", "play",
 	}
 }
 
